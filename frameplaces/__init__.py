@@ -1,0 +1,1 @@
+"""Frameplaces: which cells of a procedure may share a place of its frame."""
