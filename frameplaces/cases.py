@@ -78,6 +78,13 @@ class Cases:
                 return True
         return False
 
+    def first_wrong(self, lot):
+        """The nearest sight with a wrong event for a lot, or None."""
+        for sight in self.sights:
+            if self.is_wrong(sight, lot):
+                return sight
+        return None
+
     def way_through(self, sight):
         """The choices that lead a run to a sight, and through it."""
         parts = [sight.choices]

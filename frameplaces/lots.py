@@ -8,7 +8,7 @@ def wrong_run(program, lot):
     """The choices of a run with a wrong event for a lot after as few lines as possible, or None."""
     check_layout(program.cells, [lot])
     cases = find_cases(program)
-    sight = _first_wrong(cases, lot)
+    sight = cases.first_wrong(lot)
     return None if sight is None else cases.way_through(sight)
 
 
@@ -27,15 +27,7 @@ def wrong_lines(program, lot):
 def right_lots(program):
     """The ascending list of all right lots of two or more cells."""
     cases = find_cases(program)
-    return [lot for lot in _lots_of(sorted(program.cells)) if _first_wrong(cases, lot) is None]
-
-
-def _first_wrong(cases, lot):
-    """The nearest sight with a wrong event for a lot, or None."""
-    for sight in cases.sights:
-        if cases.is_wrong(sight, lot):
-            return sight
-    return None
+    return [lot for lot in _lots_of(sorted(program.cells)) if cases.first_wrong(lot) is None]
 
 
 def _lots_of(names):

@@ -80,6 +80,13 @@ class Sheet:
         """Whether no block but the text is open."""
         return len(self._nest) == 1
 
+    def blocks_around(self, name):
+        """The blocks that a cell is declared in, from its own outwards to the text itself."""
+        blocks = [self.homes[name]]
+        while blocks[-1] != 0:
+            blocks.append(self.around[blocks[-1]])
+        return blocks
+
     def take_line(self, line):
         """Take one line more, and tell whether it is right; a sheet with a wrong line is of no use."""
         parts = line.split(" ")

@@ -38,6 +38,41 @@ LOTS = r'''
 [False, [5, 6], False]
 '''
 
+FRAMES = r'''
+>>> from frameplaces.frames import is_right_layout, smallest_frames
+>>> from frameplaces.programs import Program
+>>> program = Program("local a x y z\ninput a\ncopy a to x\ninput y\ncopy a to z\nuse x")
+>>> smallest_frames(program)
+[[['a'], ['x', 'y', 'z']], [['a', 'x'], ['y', 'z']], [['a', 'x', 'z'], ['y']]]
+>>> [is_right_layout(program, [["z", "y"], ["x", "a"]]), is_right_layout(program, [["x", "y"]])]
+[True, False]
+'''
+
+PLAIN = r'''
+>>> from frameplaces.plain import lengthen, plain_pairs, wrong_pairs
+>>> from frameplaces.programs import Program
+>>> kept = Program("local p r\nblock\nlocal x\ninput x\npoint p to x\nend\nblock\nlocal y\ninput y\nend\nload r from p")
+>>> [plain_pairs(kept), wrong_pairs(kept), lengthen(kept)]
+[[('x', 'y')], [('p', 'x'), ('p', 'y'), ('x', 'y')], (1, [[('x', 1)], [('y', 1)]])]
+'''
+
+DESKS = r'''
+>>> from frameplaces.desks import Desk
+>>> from frameplaces.programs import Program
+>>> desk = Desk(Program("local a b\ninput a\nuse a\ninput b\nuse b"))
+>>> desk.add_guard("both", ["a", "b"])
+>>> desk.put(4, "use a\nuse a")
+>>> [desk.program.text, desk.guards()]
+['local a b\ninput a\nuse a\nuse a\nuse a\ninput b\nuse b', ['both']]
+>>> desk.put(8, "use a")
+raises Barred(names=['both'])
+>>> desk.drop(4, 5)
+>>> desk.drop(3, 3)
+>>> desk.undo()
+>>> desk.program.text
+'local a b\ninput a\nuse a\ninput b\nuse b'
+'''
+
 
 def outcome(source, names):
     """What an example shows: its value, or the error that it raises with its fields; None if nothing."""
@@ -70,6 +105,15 @@ class Examples(unittest.TestCase):
 
     def test_lots(self):
         self.check(LOTS, 3)
+
+    def test_frames(self):
+        self.check(FRAMES, 2)
+
+    def test_plain(self):
+        self.check(PLAIN, 1)
+
+    def test_desks(self):
+        self.check(DESKS, 3)
 
 
 if __name__ == "__main__":

@@ -45,6 +45,25 @@ class Form(unittest.TestCase):
                     self.assertEqual(node.level, 0)
                     self.assertTrue(node.module.startswith("frameplaces."), node.module)
 
+    def test_imports_name_the_file_that_defines(self):
+        trees = {f"frameplaces.{path.stem}": ast.parse(path.read_text()) for path in FILES}
+        known = {}
+        for name, tree in trees.items():
+            bound = [node.name for node in tree.body if isinstance(node, (ast.FunctionDef, ast.ClassDef))]
+            bound += [target.id for node in tree.body if isinstance(node, ast.Assign) for target in node.targets]
+            self.assertEqual(len(bound), len(set(bound)), name)
+            known[name] = bound
+        needs = {}
+        for name, tree in trees.items():
+            imports = [node for node in ast.walk(tree) if isinstance(node, ast.ImportFrom)]
+            for node in imports:
+                self.assertLessEqual({alias.name for alias in node.names}, set(known[node.module]), name)
+            needs[name] = {node.module for node in imports}
+        while needs:
+            free = [name for name in needs if not needs[name] & set(needs)]
+            self.assertTrue(free, "files import each other")
+            needs = {name: needs[name] for name in needs if name not in free}
+
     def test_names(self):
         known = set(dir(builtins))
         for path in FILES:

@@ -4,6 +4,7 @@ import unittest
 from random import Random
 
 from frameplaces.errors import BadLot, NoCell
+from frameplaces.frames import is_right_layout
 from frameplaces.lots import is_right, wrong_lines, wrong_run
 from frameplaces.programs import Program
 from generated import made_program
@@ -143,14 +144,25 @@ class Errors(unittest.TestCase):
             self.check(field, worth, lambda: made.run([1], layout=layout))
             self.check(field, worth, lambda: made.run([], layout=layout))
             self.check(field, worth, lambda: next(made.steps([1], layout=layout)))
+            self.check(field, worth, lambda: is_right_layout(made, layout))
         self.check("name", "a", lambda: Program("").run([], layout=[["a"]]))
         self.check("index", 0, lambda: Program("").run([], layout=[[]]))
+        self.check("name", "a", lambda: is_right_layout(Program(""), [["a"]]))
+        self.check("index", 0, lambda: is_right_layout(Program(""), [[]]))
+
+    def test_a_wrong_lot_ahead_of_an_error(self):
+        made = program("local a b c", "input a", "input b", "use a")
+        self.assertIs(is_right_layout(made, [["a", "b"]]), False)
+        self.check("name", "z", lambda: is_right_layout(made, [["a", "b"], ["z"]]))
+        self.check("index", 1, lambda: is_right_layout(made, [["a", "b"], ["c", "c"]]))
+        self.check("index", 2, lambda: is_right_layout(made, [["a", "b"], ["c"], []]))
 
     def test_lots(self):
         made = program("local a b c", "input a")
         for call in (wrong_run, is_right, wrong_lines):
             for lot, field, worth in LOTS:
                 self.check(field, worth, lambda: call(made, lot))
+                self.check(field, worth, lambda: is_right_layout(made, [lot]))
         self.check("index", 0, lambda: is_right(Program(""), []))
         self.check("name", "a", lambda: is_right(Program(""), ["a"]))
 

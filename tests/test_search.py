@@ -4,21 +4,10 @@ import unittest
 from itertools import combinations
 from random import Random
 
-from frameplaces.cases import Cases
 from frameplaces.lots import is_right, right_lots, wrong_lines, wrong_run
 from frameplaces.programs import Program
-from generated import made_program
+from generated import is_small, made_program
 from independent import Replay, Search, lots_of
-
-
-def is_small(program, most):
-    """Whether a program has at most so many cases."""
-    cases = Cases(program)
-    number = 0
-    while number < len(cases.met) and number <= most:
-        cases.go_on(number)
-        number += 1
-    return number == len(cases.met)
 
 
 class AgainstTheSecondReading(unittest.TestCase):
